@@ -1,0 +1,1 @@
+"""Textboxes: programs that read a text once and put a new one together in boxes."""

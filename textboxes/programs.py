@@ -1,7 +1,17 @@
 """Programs (point 3 of the document) and their texts (point 7)."""
 
 from textboxes.errors import BadProgram, BadText
-from textboxes.signs import BOXES, are_different, in_order, is_filling, is_name, is_text
+from textboxes.signs import (
+    BOXES,
+    are_different,
+    are_letters,
+    are_names,
+    in_order,
+    is_filling,
+    is_name,
+    is_one_of,
+    is_pair,
+)
 
 MOST_LETTERS = 5
 MOST_BOXES = 6
@@ -12,7 +22,7 @@ class Program:
     """An immutable program."""
 
     def __init__(self, letters, boxes, places, moves, ends):
-        if not _are_letters(letters):
+        if not are_letters(letters, MOST_LETTERS):
             raise BadProgram("letters")
         if not _are_boxes(boxes):
             raise BadProgram("boxes")
@@ -86,10 +96,6 @@ class Program:
         return cls(letters, boxes, places, moves, ends)
 
 
-def _are_letters(thing):
-    return is_text(thing) and 1 <= len(thing) <= MOST_LETTERS and are_different(thing)
-
-
 def _are_boxes(thing):
     if not isinstance(thing, str) or len(thing) > MOST_BOXES:
         return False
@@ -97,18 +103,7 @@ def _are_boxes(thing):
 
 
 def _are_places(thing):
-    if not isinstance(thing, (list, tuple)) or not 1 <= len(thing) <= MOST_PLACES:
-        return False
-    return all([is_name(name) for name in thing]) and are_different(thing)
-
-
-def _is_pair(thing):
-    return isinstance(thing, (list, tuple)) and len(thing) == 2
-
-
-def _is_one_of(thing, strings):
-    # An object that is no string could be equal to one of them, or raise an error when it is compared.
-    return isinstance(thing, str) and thing in strings
+    return are_names(thing) and len(thing) <= MOST_PLACES
 
 
 def _are_moves(thing, letters, boxes, places):
@@ -117,11 +112,11 @@ def _are_moves(thing, letters, boxes, places):
     # In a string, "in" would find the empty string and strings of several letters, too.
     letters_apart = list(letters)
     for key, found in thing.items():
-        if not _is_pair(key) or not _is_pair(found):
+        if not is_pair(key) or not is_pair(found):
             return False
-        if not _is_one_of(key[0], places) or not _is_one_of(key[1], letters_apart):
+        if not is_one_of(key[0], places) or not is_one_of(key[1], letters_apart):
             return False
-        if not _is_one_of(found[0], places) or not _are_fillings(found[1], boxes):
+        if not is_one_of(found[0], places) or not _are_fillings(found[1], boxes):
             return False
     return True
 
@@ -131,7 +126,7 @@ def _are_fillings(thing, boxes):
     if not isinstance(thing, dict):
         return False
     boxes_apart = list(boxes)
-    if not all([_is_one_of(box, boxes_apart) for box in thing]):
+    if not all([is_one_of(box, boxes_apart) for box in thing]):
         return False
     if not all([isinstance(filling, str) for filling in thing.values()]):
         return False
@@ -143,7 +138,7 @@ def _are_ends(thing, boxes, places):
     if not isinstance(thing, dict):
         return False
     for place, filling in thing.items():
-        if not _is_one_of(place, places) or not is_filling(filling, boxes):
+        if not is_one_of(place, places) or not is_filling(filling, boxes):
             return False
     return True
 
@@ -189,7 +184,7 @@ def _read_head(lines):
 def _read_letters(line):
     """Return the letters that a line tells, or None if it cannot stand at the beginning."""
     word, _, letters = line.partition(" ")
-    if word == "letters" and _are_letters(letters) and letters == in_order(letters):
+    if word == "letters" and are_letters(letters, MOST_LETTERS) and letters == in_order(letters):
         return letters
     return None
 

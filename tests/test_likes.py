@@ -8,7 +8,7 @@ from tests.made import (
     texts_up_to, twin_of, with_a_place_twice, with_other_names,
 )
 from textboxes.errors import BoxError, OtherLetters
-from textboxes.fields import primes_beyond
+from textboxes.fields import first_primes
 from textboxes.likes import alike, enough, is_enough
 from textboxes.makers import either, joined, led_by, told_by, turned
 from textboxes.programs import Program
@@ -298,23 +298,39 @@ class ExactNumbers(unittest.TestCase):
     """Texts whose numbers are equal modulo a prime that is used, or a power of two, and still are not equal."""
 
     def numbers(self):
-        primes = primes_beyond(800)
+        primes = first_primes(4)
         return [primes[0], primes[1], primes[0] * primes[1], primes[0] * primes[1] * primes[2], 2 ** 64, 2 ** 61 - 1,
                 (2 ** 61 - 1) * (2 ** 89 - 1) * (2 ** 127 - 1) * 1000000007 * 998244353]
 
+    def programs(self, number):
+        """Two programs that tell the same behind a, but texts whose numbers differ by this one behind b."""
+        texts = [text_of(26 ** 250), text_of(26 ** 250 + number), text_of(26 ** 250 + 1)]
+        self.assertEqual([len(text) for text in texts], [len(texts[0])] * 3)
+        moves = {("on", letter): ("on", {"X": text}) for letter, text in zip("abc", texts)}
+        others = {**moves, ("on", "b"): ("on", {"X": texts[0]}), ("on", "c"): ("on", {"X": texts[0]})}
+        return [Program("abc", "X", ["on"], found, {"on": "X"}) for found in [moves, others]]
+
     def test_numbers_that_differ_by_a_product_of_primes(self):
         for number in self.numbers():
-            one_text = text_of(26 ** 250)
-            two_text = text_of(26 ** 250 + number)
-            self.assertEqual(len(one_text), len(two_text))
-            moves = {("on", "a"): ("on", {"X": one_text}), ("on", "b"): ("on", {"X": two_text})}
-            one = Program("ab", "X", ["on"], moves, {"on": "X"})
-            two = Program("ab", "X", ["on"], {**moves, ("on", "b"): ("on", {"X": one_text})}, {"on": "X"})
+            one, two = self.programs(number)
             self.assertEqual(alike(one, two), "b")
+            self.assertEqual(alike(two, one), "b")
             self.assertEqual(enough(one, two), ["", "a", "b"])
             self.assertFalse(is_enough(one, two, ["", "a"]))
             self.assertFalse(is_enough(one, two, ["", "a", "a", "aa", "ba"]))
-            self.assertTrue(is_enough(one, two, ["", "a", "bb"]))
+            for texts in [["", "a", "bb"], ["", "a", "c"], ["", "b", "cc"], ["", "c", "b", "a", "ab"]]:
+                self.assertTrue(is_enough(one, two, texts))
+                self.assertTrue(plainly_enough(one, two, texts))
+
+    def test_with_very_long_fillings(self):
+        for number in self.numbers():
+            one, two = [told_by(joined(program, joined(plain("abc"), turned(plain("abc")))), {"a": "ab" * 50})
+                        for program in self.programs(number)]
+            self.assertEqual(alike(one, two), "b")
+            self.assertIsNone(alike(one, turned(turned(one))))
+            found = enough(one, two)
+            self.assertTrue(is_enough(one, two, found))
+            self.assertFalse(is_enough(one, two, found[:-1]))
 
 
 if __name__ == "__main__":

@@ -2,10 +2,13 @@
 
 import random
 import unittest
+from fractions import Fraction
 
 from tests.made import plain, plain_marks, plain_number, small_program, some_program, texts_up_to
 from textboxes.errors import BoxError, NotLetter
-from textboxes.fields import FACTORS, number_modulo, primes_beyond, width_modulo
+from textboxes.fields import (
+    FACTORS, combined, first_primes, fraction_of, inverse_of, number_modulo, primes_for, steps_of, width_modulo,
+)
 from textboxes.likes import marks
 from textboxes.makers import told_by
 from textboxes.marking import marks_of, terms_of
@@ -43,7 +46,7 @@ class Numbers(unittest.TestCase):
 class Primes(unittest.TestCase):
     def test_all_are_primes(self):
         self.assertEqual(len(set(FACTORS)), len(FACTORS))
-        for prime in primes_beyond(130000):
+        for prime in first_primes(len(FACTORS)):
             # Proth's theorem: k * 2 ** n + 1 with odd k < 2 ** n is a prime if such a power is -1.
             halves = [pow(base, (prime - 1) // 2, prime) for base in [3, 5, 7, 11, 13, 17, 19, 23]]
             self.assertIn(prime - 1, halves)
@@ -51,17 +54,32 @@ class Primes(unittest.TestCase):
             self.assertEqual((prime >> 260) % 2, 1)
 
     def test_how_many(self):
-        for bits in [1, 260, 266, 267, 300, 1000, 50000, 130000]:
+        for bits in [1, 260, 265, 266, 267, 300, 1000, 50000, 130000]:
             product = 1
-            for prime in primes_beyond(bits):
+            for prime in first_primes(primes_for(bits)):
                 product *= prime
             self.assertGreater(product, 2 ** bits)
-        self.assertEqual(len(primes_beyond(1)), 1)
-        self.assertIsNone(primes_beyond(10 ** 6))
+        self.assertEqual(len(first_primes(1)), 1)
+        self.assertEqual(len(first_primes(10 ** 6)), len(FACTORS))
+
+    def test_inverses_and_fractions(self):
+        chance = random.Random(31)
+        for many in [1, 2, 5]:
+            primes = first_primes(many)
+            modulus = 1
+            for prime in primes:
+                modulus *= prime
+            for _ in range(30):
+                number = chance.randrange(1, modulus)
+                self.assertEqual(number * inverse_of(number, primes[0]) % primes[0], 1 % primes[0])
+                self.assertEqual(combined([number % prime for prime in primes], primes, steps_of(primes)), number)
+                top, bottom = chance.randrange(-10 ** 30, 10 ** 30), chance.randrange(1, 10 ** 30)
+                found = fraction_of(top * pow(bottom, -1, modulus) % modulus, modulus)
+                self.assertEqual(Fraction(*found), Fraction(top, bottom))
 
     def test_modulo(self):
         chance = random.Random(20)
-        prime = primes_beyond(1)[0]
+        prime = first_primes(1)[0]
         for many in [0, 1, 63, 64, 65, 300, 1000]:
             text = "".join(chance.choices("abcz", k=many))
             self.assertEqual(number_modulo(text, prime), number_of(text) % prime)
@@ -120,7 +138,7 @@ class Marks(unittest.TestCase):
 
     def test_moves_lead_from_marks_to_marks(self):
         chance = random.Random(22)
-        prime = primes_beyond(1)[0]
+        prime = first_primes(1)[0]
         for _ in range(60):
             program = small_program(chance, "ab", 3)
             for text in texts_up_to("ab", 3):
@@ -128,9 +146,9 @@ class Marks(unittest.TestCase):
                 for letter in "ab":
                     after = marks(program, text + letter)
                     if after is not None:
-                        terms = terms_of(program.boxes, program.move(state[0], letter)[1], prime)
-                        found = [sum(factor * state[1][at] for factor, at in line) % prime for line in terms]
-                        self.assertEqual(found, [number % prime for number in after[1]])
+                        terms = terms_of(program.boxes, program.move(state[0], letter)[1], number_of, width_of)
+                        found = [sum(factor * state[1][at] for factor, at in line) for line in terms]
+                        self.assertEqual(found, after[1])
 
 
 if __name__ == "__main__":

@@ -5,9 +5,12 @@ fraction, is decided modulo primes: a determinant that is not 0 modulo a prime i
 several primes is 0 if their product is greater than it can be.
 """
 
+from math import isqrt
+
 from textboxes.widths import BASE, CHUNK, chunk_numbers
 
 # The primes are k * 2 ** 260 + 1 for these k: for such numbers one power shows that they are primes (Proth's theorem).
+# Each k is greater than 64.
 POWER = 260
 FACTORS = (
     91, 223, 535, 961, 997, 1035, 1095, 1365, 1563, 1593, 1711, 1813, 2317, 2475, 3685, 3835, 4273, 4407, 4593, 4705,
@@ -45,16 +48,14 @@ FACTORS = (
 )
 
 
-def primes_beyond(bits):
-    """Return the list of the first primes whose product is greater than 2 ** bits, or None if there are too few."""
-    found = []
-    rest = bits
-    for factor in FACTORS:
-        if rest <= 0:
-            break
-        found.append((factor << POWER) + 1)
-        rest -= POWER + factor.bit_length() - 1
-    return found if rest <= 0 else None
+def first_primes(many):
+    """Return the list of the first so many primes, or of all that are known."""
+    return [(factor << POWER) + 1 for factor in FACTORS[:many]]
+
+
+def primes_for(bits):
+    """Return how many primes have a product that is certainly greater than 2 ** bits."""
+    return bits // (POWER + 6) + 1
 
 
 def width_modulo(length, prime):
@@ -73,4 +74,47 @@ def number_modulo(text, prime):
     number = 0
     for one in chunk_numbers(text):
         number = (number * width + one) % prime
+    return number
+
+
+def inverse_of(number, prime):
+    """Return what a number must be multiplied with for 1 modulo a prime."""
+    return _divided_until(prime, number % prime, 1)[1] % prime
+
+
+def fraction_of(residue, modulus):
+    """Return the pair of small numbers whose quotient is a number modulo another one, or None."""
+    most = isqrt(modulus // 2)
+    top, bottom = _divided_until(modulus, residue, most)
+    if abs(bottom) > most:
+        return None
+    return (top, bottom) if bottom > 0 else (-top, -bottom)
+
+
+def _divided_until(modulus, number, most):
+    """Return the first rest of Euclid's algorithm that is not greater than `most`, and how often it has the number."""
+    high, low = modulus, number
+    above, below = 0, 1
+    while low > most:
+        times = high // low
+        high, low = low, high - times * low
+        above, below = below, above - times * below
+    return low, below
+
+
+def steps_of(primes):
+    """Return for each prime the pair of the product of those before and of its inverse modulo the prime."""
+    found = []
+    product = 1
+    for prime in primes:
+        found.append((product, inverse_of(product, prime)))
+        product = product * prime
+    return found
+
+
+def combined(residues, primes, steps):
+    """Return the number that has these residues modulo the primes, by the steps of the primes."""
+    number = 0
+    for residue, prime, (product, inverse) in zip(residues, primes, steps):
+        number += product * ((residue - number) * inverse % prime)
     return number

@@ -6,7 +6,6 @@ the empty string.
 
 from itertools import combinations
 
-from textboxes.fields import number_modulo, width_modulo
 from textboxes.signs import in_order, parts_of
 
 
@@ -20,8 +19,8 @@ def marks_of(boxes):
     return found
 
 
-def terms_of(boxes, fillings, prime):
-    """Return how a move leads from marks to marks, modulo a prime.
+def terms_of(boxes, fillings, number, width):
+    """Return how a move leads from marks to marks, by two functions for the numbers and the widths of texts.
 
     For each mark behind the move there is a list of terms: pairs of the factor and of the index of a mark ahead of it.
     """
@@ -30,34 +29,34 @@ def terms_of(boxes, fillings, prime):
     numbers = {}
     widths = {}
     for box in boxes:
-        numbers[box], widths[box] = _box_terms(parts_of(fillings.get(box, ""), boxes), prime)
+        numbers[box], widths[box] = _box_terms(parts_of(fillings.get(box, ""), boxes), number, width)
     rows = []
     for chosen, box in marks:
         factor = 1
         carried = ""
         for one in chosen:
-            width, inner = widths[one]
-            factor = factor * width % prime
+            by, inner = widths[one]
+            factor = factor * by
             carried = carried + inner
         terms = [(1, "", "")] if box == "" else numbers[box]
-        rows.append([(factor * by % prime, places[(in_order(carried + behind), of)]) for by, behind, of in terms])
+        rows.append([(factor * by, places[(in_order(carried + behind), of)]) for by, behind, of in terms])
     return rows
 
 
-def _box_terms(parts, prime):
+def _box_terms(parts, number, width):
     """Return what the number of a filling, in parts, is the sum of, and what its width is the product of.
 
     The number is a list of a factor, the boxes whose widths are taken, and the box whose number is taken, or the empty
     string. The width is a pair of a factor and the boxes whose widths are taken.
     """
     numbers = []
-    width = 1
+    factor = 1
     behind = ""
     for part in parts[::-1]:
         if part.isupper():
-            numbers.append((width, behind, part))
+            numbers.append((factor, behind, part))
             behind = behind + part
         else:
-            numbers.append((number_modulo(part, prime) * width % prime, behind, ""))
-            width = width * width_modulo(len(part), prime) % prime
-    return numbers, (width, behind)
+            numbers.append((number(part) * factor, behind, ""))
+            factor = width(len(part)) * factor
+    return numbers, (factor, behind)

@@ -1,5 +1,7 @@
 """The sums of rows of numbers, each times a number, modulo a prime."""
 
+from textboxes.fields import inverse_of
+
 
 class Span:
     """All sums of the rows that were taken in, each times a number, modulo a prime.
@@ -35,6 +37,19 @@ class Span:
     def effort(self):
         """Return about how many products it needs to take in a row."""
         return (len(self._rows) + 1) * len(self._columns)
+
+    def pivots(self):
+        """Return the list of the columns that are pivots, each for the row that was taken in with it."""
+        return list(self._pivots)
+
+    def columns(self):
+        """Return the list of the columns that are no pivots, ascending."""
+        return list(self._columns)
+
+    def residues(self):
+        """Return what the kept rows have in the columns that are no pivots, if they have 1 in their pivots."""
+        inverse = inverse_of(self._scale, self._prime)
+        return [[number * inverse % self._prime for number in row] for row in self._rows]
 
     def _without(self, row, heads):
         """Return what stands in the columns that are no pivots, once the pivots of a row are made 0."""

@@ -1,61 +1,53 @@
-"""Two programs that read the same text, and the rows of the marks of both, modulo primes (points 13 and 14)."""
+"""Two programs that read the same texts, and the spans of the rows of the marks of both (point 14 of the document)."""
 
 from textboxes.bounds import Bound
-from textboxes.marking import marks_of, terms_of
-from textboxes.signs import parts_of
+from textboxes.marking import marks_of
+from textboxes.relations import relations_of
+from textboxes.sides import Side
 from textboxes.spans import Span
 
 
 class Twins:
-    """The states of two programs behind the same texts, as far as they matter, and the spans of those that were kept.
-
-    Such a state is a tuple of the pair of places, of which one is None if its program has refused the text before; of
-    the lists of the lengths of the boxes of both; and of the rows of the marks of both programs, one for each prime.
-    Behind a text that one program has refused, there are no rows.
-    """
+    """The pairs of the states of two programs behind texts, and the spans of the rows of those that were kept."""
 
     def __init__(self, one, two, primes):
-        self._one = one
-        self._two = two
+        self._one = Side(one, primes)
+        self._two = Side(two, primes)
+        self._boxes = (one.boxes, two.boxes)
+        self._many = len(marks_of(one.boxes)) + len(marks_of(two.boxes))
         self._primes = primes
-        self._moves = {}
         self._spans = {}
         self._bounds = {}
+        self._asked = {}
         self._kept = {}
         self._effort = 0
 
     def first(self):
-        """Return the state behind the empty text."""
-        marks = marks_of(self._one.boxes) + marks_of(self._two.boxes)
-        row = [1 if box == "" else 0 for _, box in marks]
-        lengths = ([0 for _ in self._one.boxes], [0 for _ in self._two.boxes])
-        return (self._one.places[0], self._two.places[0]), lengths, [list(row) for _ in self._primes]
+        """Return the states behind the empty text."""
+        return self._one.first(), self._two.first()
 
-    def after(self, state, letter):
-        """Return the state behind one more letter, or None if both programs have refused the text then."""
-        pair, lengths, rows = state
-        key = (pair, letter)
-        if key not in self._moves:
-            self._moves[key] = self._move(pair, letter)
-        if self._moves[key] is None:
-            return None
-        target, growths, maps = self._moves[key]
-        found = []
-        for prime, row, terms in zip(self._primes, rows, maps):
-            found.append([sum([by * row[at] for by, at in line]) % prime for line in terms])
-        self._effort += sum([len(line) for line in maps[0]]) if maps else 0
-        return target, (_grown(lengths[0], growths[0]), _grown(lengths[1], growths[1])), found
+    def after(self, states, letter):
+        """Return the states behind one more letter."""
+        return self._one.after(states[0], letter), self._two.after(states[1], letter)
 
-    def keep(self, state):
-        """Keep a state, and tell whether it says more than those that were kept with the same pair of places."""
-        pair, lengths, rows = state
-        if None in pair:
-            is_new = pair not in self._kept
-        else:
-            is_new = self._widen(pair, lengths, rows)
+    def keep(self, states):
+        """Keep states, and tell whether they say more than those that were kept with the same pair of places.
+
+        States say nothing where both programs have refused the text.
+        """
+        one, two = states
+        if one is None and two is None:
+            return False
+        pair = (None if one is None else one[0], None if two is None else two[0])
+        self._asked[pair] = self._asked.get(pair, 0) + 1
+        is_new = pair not in self._kept if None in pair else self._widen(pair, one, two)
         if is_new:
             self._kept[pair] = self._kept.get(pair, 0) + 1
         return is_new
+
+    def asked(self):
+        """Return the dict from the pairs of places to how many states were asked about there."""
+        return dict(self._asked)
 
     def ranks(self):
         """Return the dict from the pairs of places to how many states were kept there."""
@@ -67,56 +59,34 @@ class Twins:
 
     def effort(self):
         """Return about how many products it took for each prime."""
-        return self._effort
+        return self._effort + self._one.effort() + self._two.effort()
 
-    def _widen(self, pair, lengths, rows):
-        """Add the rows of a state to the spans of its pair, and tell whether one of them was widened."""
+    def relations(self):
+        """Return the dict from pairs of places to the relations of the marks there, or None if some are not found."""
+        found = {}
+        for pair, spans in self._spans.items():
+            primes = [self._primes[at] for at, _ in spans]
+            found[pair] = relations_of([span for _, span in spans], primes)
+            if found[pair] is None:
+                return None
+        return found
+
+    def _widen(self, pair, one, two):
+        """Take the rows of two states into the spans of their pair, and tell whether these were widened."""
         if pair not in self._spans:
-            self._spans[pair] = [Span(len(row), prime) for row, prime in zip(rows, self._primes)]
-            self._bounds[pair] = Bound(self._one.boxes, self._two.boxes)
-        self._effort += self._spans[pair][0].effort()
-        self._bounds[pair].ask(lengths[0], lengths[1])
-        # A prime can divide a determinant by chance: so a row that only one prime tells apart is new, too.
-        news = [span.take(row) for span, row in zip(self._spans[pair], rows)]
-        if True not in news:
+            self._spans[pair] = [(at, Span(self._many, prime)) for at, prime in enumerate(self._primes)]
+            self._bounds[pair] = Bound(self._boxes[0], self._boxes[1])
+        spans = self._spans[pair]
+        self._effort += spans[0][1].effort()
+        self._bounds[pair].ask(one[1], two[1])
+        wider = []
+        for at, span in spans:
+            if span.take(one[2][at] + two[2][at]):
+                wider.append((at, span))
+        if not wider:
             return False
-        self._bounds[pair].keep(lengths[0], lengths[1])
+        # A prime can divide a determinant by chance. Then it says nothing more here: other rows could seem new to it
+        # because they are new instead of this one.
+        self._spans[pair] = wider
+        self._bounds[pair].keep(one[1], two[1])
         return True
-
-    def _move(self, pair, letter):
-        """Return the next pair of places, how the boxes of both grow, and the terms for each prime, or None."""
-        one_target, one_fillings = _move_of(self._one, pair[0], letter)
-        two_target, two_fillings = _move_of(self._two, pair[1], letter)
-        target = (one_target, two_target)
-        if target == (None, None):
-            return None
-        if None in target:
-            return target, ([], []), []
-        growths = (_growth(self._one.boxes, one_fillings), _growth(self._two.boxes, two_fillings))
-        maps = []
-        for prime in self._primes:
-            terms = terms_of(self._one.boxes, one_fillings, prime)
-            behind = terms_of(self._two.boxes, two_fillings, prime)
-            maps.append(terms + [[(by, at + len(terms)) for by, at in line] for line in behind])
-        return target, growths, maps
-
-
-def _move_of(program, place, letter):
-    """Return the next place, or None, and the fillings; a program that has refused the text has no place."""
-    found = None if place is None else program.move(place, letter)
-    return (None, {}) if found is None else found
-
-
-def _growth(boxes, fillings):
-    """Return for each box the pair of how many letters it gets, and of the list of the indices of the boxes it gets."""
-    found = []
-    for box in boxes:
-        parts = parts_of(fillings.get(box, ""), boxes)
-        letters = sum([len(part) for part in parts if part not in boxes])
-        found.append((letters, [boxes.index(part) for part in parts if part in boxes]))
-    return found
-
-
-def _grown(lengths, growth):
-    """Return the lengths of boxes behind a move."""
-    return [letters + sum([lengths[at] for at in taken]) for letters, taken in growth]

@@ -13,6 +13,11 @@ USED = set(
     "LookupError TypeError ZeroDivisionError StopIteration NotImplemented".split()
 )
 LIBRARY = {"heapq", "math", "itertools", "collections"}
+METHODS = set(
+    "append clear copy count endswith extend find get index insert isalnum isalpha isdigit islower isspace isupper items "
+    "join keys ljust lower lstrip partition pop remove replace reverse rfind rjust rpartition rsplit rstrip setdefault "
+    "split splitlines startswith strip update upper values zfill bit_length isascii translate maketrans".split()
+)
 BARRED = (ast.GeneratorExp, ast.Global, ast.AsyncFunctionDef, ast.Await, ast.Div, ast.TryStar)
 
 
@@ -52,6 +57,27 @@ class Form(unittest.TestCase):
             self.assertNotIsInstance(node.value, (float, complex), (name, node.lineno))
             if isinstance(node.value, str):
                 self.assertNotIn(chr(37), node.value, (name, node.lineno))
+
+    def test_methods_and_attributes(self):
+        own = {node.name for _, node in nodes(ast.FunctionDef)}
+        stored = {node.attr for _, node in nodes(ast.Attribute) if isinstance(node.ctx, ast.Store)}
+        self.assertEqual(own & stored, set())
+        for name, node in nodes(ast.Attribute):
+            self.assertIn(node.attr, METHODS | own | stored, (name, node.lineno))
+        for name, node in nodes(ast.Call):
+            if isinstance(node.func, ast.Attribute) and node.func.attr not in own:
+                self.assertIn(node.func.attr, METHODS, (name, node.lineno))
+                self.assertEqual(node.keywords, [], (name, node.lineno))
+
+    def test_names_that_are_bound_once(self):
+        for name, tree in trees():
+            imported = [part.name for row in tree.body if isinstance(row, ast.ImportFrom) for part in row.names]
+            classes = [row.name for row in tree.body if isinstance(row, ast.ClassDef)]
+            for found in classes:
+                self.assertRegex(found, r"\A[A-Z]", name)
+            stored = [node.id for node in ast.walk(tree) if isinstance(node, ast.Name) and isinstance(node.ctx, ast.Store)]
+            stored += [node.arg for node in ast.walk(tree) if isinstance(node, ast.arg)]
+            self.assertEqual(set(stored) & set(imported + classes), set(), name)
 
     def test_names(self):
         for name, node in nodes(ast.Name):

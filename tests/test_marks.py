@@ -21,18 +21,18 @@ class Numbers(unittest.TestCase):
         self.assertEqual([number_of(text) for text in ["", "a", "z", "aa", "az", "ba", "zz", "aaa"]],
                          [0, 1, 26, 27, 52, 53, 702, 703])
         chance = random.Random(18)
-        for many in [1, 2, 63, 64, 65, 127, 128, 129, 300, 700]:
+        for many in [1, 2, 63, 64, 65, 255, 256, 257, 300, 512, 513, 767, 900]:
             text = "".join(chance.choices("abcdefghijklmnopqrstuvwxyz", k=many))
             self.assertEqual(number_of(text), plain_number(text))
 
     def test_widths(self):
-        for many in [0, 1, 2, 3, 63, 64, 65, 1000]:
+        for many in [0, 1, 2, 3, 63, 64, 65, 255, 256, 257, 1000]:
             self.assertEqual(width_of(many), 26 ** many)
 
     def test_two_put_together(self):
         chance = random.Random(19)
         for _ in range(50):
-            one, two = ["".join(chance.choices("abyz", k=chance.randrange(150))) for _ in range(2)]
+            one, two = ["".join(chance.choices("abyz", k=chance.randrange(600))) for _ in range(2)]
             self.assertEqual(number_of(one + two), number_of(one) * width_of(len(two)) + number_of(two))
             self.assertEqual(width_of(len(one + two)), width_of(len(one)) * width_of(len(two)))
 
@@ -80,7 +80,7 @@ class Primes(unittest.TestCase):
     def test_modulo(self):
         chance = random.Random(20)
         prime = first_primes(1)[0]
-        for many in [0, 1, 63, 64, 65, 300, 1000]:
+        for many in [0, 1, 255, 256, 257, 300, 1000]:
             text = "".join(chance.choices("abcz", k=many))
             self.assertEqual(number_modulo(text, prime), number_of(text) % prime)
             self.assertEqual(width_modulo(many, prime), width_of(many) % prime)

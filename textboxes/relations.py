@@ -70,7 +70,7 @@ def hold(one, two, relations):
 def _letters_of(program):
     """Return how many letters the fillings of all moves have, or a few more."""
     moves = [program.move(place, letter) for place in program.places for letter in program.letters]
-    return sum([len("".join(list(move[1].values()))) for move in moves if move is not None])
+    return sum([len(filling) for move in moves if move is not None for filling in move[1].values()])
 
 
 def _exact_terms(program, start):

@@ -6,6 +6,8 @@ from textboxes.relations import relations_of
 from textboxes.sides import Side
 from textboxes.spans import Span
 
+MOST_FRACTIONS = 1000000
+
 
 class Twins:
     """The pairs of the states of two programs behind texts, and the spans of the rows of those that were kept."""
@@ -64,10 +66,15 @@ class Twins:
     def relations(self):
         """Return the dict from pairs of places to the relations of the marks there, or None if some are not found."""
         found = {}
+        fractions = 0
         for pair, spans in self._spans.items():
             primes = [self._primes[at] for at, _ in spans]
             found[pair] = relations_of([span for _, span in spans], primes)
             if found[pair] is None:
+                return None
+            fractions += sum([len(others) for _, others in found[pair].values()])
+            # To find a fraction takes steps as many as digits, and each of them goes through all digits.
+            if fractions * len(primes) ** 2 > MOST_FRACTIONS:
                 return None
         return found
 

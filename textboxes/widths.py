@@ -3,8 +3,7 @@
 from textboxes.signs import LETTERS
 
 BASE = 26
-CHUNK = 64
-AHEAD_OF_A = 96
+CHUNK = 256
 
 
 def width_of(length):
@@ -32,16 +31,18 @@ def number_of(text):
 
 def chunk_numbers(text):
     """Return the numbers of the chunks of a text, which have CHUNK letters each but the first one, which has fewer."""
+    # Read as a number, a chunk is worked out at once, not letter by letter.
+    digits = text.translate(str.maketrans("abcdefghijklmnopqrstuvwxyz", "0123456789abcdefghijklmnop"))
     first = len(text) & (CHUNK - 1)
+    more = _more_than_digits(CHUNK)
     starts = range(first, len(text), CHUNK)
-    return [_small_number_of(text[:first])] + [_small_number_of(text[at:at + CHUNK]) for at in starts]
+    ahead = 0 if first == 0 else int(digits[:first], BASE) + _more_than_digits(first)
+    return [ahead] + [int(digits[at:at + CHUNK], BASE) + more for at in starts]
 
 
-def _small_number_of(text):
-    number = 0
-    for letter in text:
-        number = number * BASE + ord(letter) - AHEAD_OF_A
-    return number
+def _more_than_digits(length):
+    """Return by how much so many letters, counted from 1 on, are more than so many digits, counted from 0 on."""
+    return (width_of(length) - 1) // (BASE - 1)
 
 
 def text_of(number):

@@ -1,9 +1,12 @@
 """Programs for tests, and plain ways of running and judging them, by the words of the document."""
 
 import itertools
+import unittest
 from fractions import Fraction
 
+from textboxes.errors import BoxError
 from textboxes.programs import Program
+from textboxes.tables import Table
 
 NAMES = ["on", "off", "place", "a", "z", "abcdefgh"]
 
@@ -218,40 +221,73 @@ def plainly_enough(one, two, texts):
     return True
 
 
-def plain(letters):
-    return Program(letters, "X", ["on"], {("on", sign): ("on", {"X": "X" + sign}) for sign in letters}, {"on": "X"})
+def plain_origins(program, text):
+    """The pairs of the letters of what is told and of their origins, by the words of point 20, or None."""
+    place, texts = program.places[0], {box: [] for box in program.boxes}
+
+    def put(filling, origin):
+        return [pair for sign in filling for pair in texts.get(sign, [(sign, origin)])]
+
+    for index, letter in enumerate(text):
+        move = program.move(place, letter)
+        if move is None:
+            return None
+        place, fillings = move
+        texts = {box: put(fillings.get(box, ""), index) for box in program.boxes}
+    end = program.end(place)
+    return None if end is None else put(end, len(text))
 
 
-def backward(letters):
-    return Program(letters, "X", ["on"], {("on", sign): ("on", {"X": sign + "X"}) for sign in letters}, {"on": "X"})
+def small_table(chance, letters, most_places=4):
+    """A small table with these letters that a source of chance picks."""
+    places = chance.sample(["one", "two", "three", "four", "a", "z"], chance.randint(1, most_places))
+    share = chance.choice([0.5, 0.8, 1])
+    moves = {(place, letter): chance.choice(places) for place in places for letter in letters if chance.random() < share}
+    return Table(letters, places, moves, [place for place in places if chance.random() < 0.5])
 
 
-def exchanging(letters, sign):
-    moves = {}
-    for letter in letters:
-        moves[("ahead", letter)] = ("ahead", {"X": "X" + letter})
-        moves[("behind", letter)] = ("behind", {"X": "X", "Y": "Y" + letter})
-    moves[("ahead", sign)] = ("behind", {"X": "X"})
-    return Program(letters, "XY", ["ahead", "behind"], moves, {"behind": "Y" + sign + "X"})
+def plainly_taken(table, text):
+    """Whether a table takes a text, by the words of point 15."""
+    place = table.places[0]
+    for sign in text:
+        if sign not in table.letters or (place, sign) not in table.ways():
+            return False
+        place = table.ways()[(place, sign)]
+    return place in table.good
 
 
-def sorting(letters, sign):
-    moves = {("on", letter): ("on", {"X": "X", "Y": "Y" + letter}) for letter in letters}
-    moves[("on", sign)] = ("on", {"X": "X" + sign, "Y": "Y"})
-    return Program(letters, "XY", ["on"], moves, {"on": "XY"})
+def in_shape_of_least(table):
+    """Whether a table has the order and the names of a least one, and moves only to where a good place is reached."""
+    hopeful = set(table.good)
+    while True:
+        more = {place for (place, _), target in table.ways().items() if target in hopeful} - hopeful
+        if not more:
+            break
+        hopeful |= more
+    if not hopeful:
+        return table.places == ("a",) and not table.ways()
+    met = [table.places[0]]
+    for place in met:
+        for letter in table.letters:
+            target = table.step(place, letter)
+            if target is not None and target not in met:
+                met.append(target)
+    names = [text for text in texts_up_to("abcdefghijklmnopqrstuvwxyz", 2) if text][:len(met)]
+    return set(table.places) == hopeful and list(table.places) == met == names
 
 
-def halving(letters):
-    moves = {}
-    for letter in letters:
-        moves[("take", letter)] = ("leave", {"X": "X" + letter})
-        moves[("leave", letter)] = ("take", {"X": "X"})
-    return Program(letters, "X", ["take", "leave"], moves, {"take": "X", "leave": "X"})
+def shortest_of(texts):
+    """The first one, by the alphabet, of the shortest ones of some texts, or None."""
+    return min(texts, key=lambda text: (len(text), text), default=None)
 
 
-def late(letters, sign):
-    moves = {}
-    for place in ["no", "yes"]:
-        for letter in letters:
-            moves[(place, letter)] = ("yes" if letter == sign else "no", {"X": "X" + letter})
-    return Program(letters, "X", ["no", "yes"], moves, {"no": "", "yes": "X"})
+class Kit(unittest.TestCase):
+    """What tests of several points need."""
+
+    def raised(self, error, call, *things):
+        """The error of this kind that a call raises."""
+        with self.assertRaises(error) as caught:
+            call(*things)
+        self.assertIs(type(caught.exception), error)
+        self.assertIsInstance(caught.exception, BoxError)
+        return caught.exception

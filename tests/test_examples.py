@@ -1,18 +1,19 @@
-"""The examples at the end of the document, as far as the modules for them are there."""
+"""The examples at the end of the document."""
 
 import unittest
 
-from tests.made import backward, exchanging, plain, sorting
+from textboxes.gaps import gap
 from textboxes.great import great_length, great_piece
+from textboxes.known import backward, exchanging, plain, sorting
 from textboxes.likes import alike, enough, is_enough
 from textboxes.makers import joined, told_by, turned
+from textboxes.marked import unlike_origins
 from textboxes.programs import Program
 from textboxes.runs import behind, told
+from textboxes.whence import great_origin, origins
 
 
 class Examples(unittest.TestCase):
-    """The known programs of the document are made by the tests themselves until the package has them."""
-
     turn = Program.parse("letters ab\nboxes X\nplace on X\na on X=aX\nb on X=bX")
 
     def test_programs_and_runs(self):
@@ -46,6 +47,19 @@ class Examples(unittest.TestCase):
             [great_length(exchanging("ab", "b"), many),
              great_piece(exchanging("ab", "b"), many, 2 * 10 ** 30 - 2, 4)],
             [3000000000000000000000000000001, "abba"],
+        )
+
+    def test_origins(self):
+        self.assertEqual(
+            [origins(backward("ab"), "ab"), great_origin(backward("ab"), [("ab", 10 ** 30)], 0),
+             unlike_origins(plain("a"), backward("a"))],
+            [[1, 0], 1999999999999999999999999999999, "aa"],
+        )
+
+    def test_gaps(self):
+        self.assertEqual(
+            [gap(plain("ab"), sorting("ab", "a")), gap(joined(plain("a"), plain("a")), plain("a"))[0]],
+            [("most", 0, ""), "endless"],
         )
 
 

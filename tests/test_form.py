@@ -79,6 +79,29 @@ class Form(unittest.TestCase):
             stored += [node.arg for node in ast.walk(tree) if isinstance(node, ast.arg)]
             self.assertEqual(set(stored) & set(imported + classes), set(), name)
 
+    def test_properties(self):
+        found = {node.name for _, node in nodes(ast.FunctionDef) if "property" in [ast.unparse(d) for d in node.decorator_list]}
+        stored = {node.attr for _, node in nodes(ast.Attribute) if isinstance(node.ctx, ast.Store)}
+        self.assertEqual(found & stored, set())
+
+    def test_imports_are_used(self):
+        for name, tree in trees():
+            imported = {part.name for row in tree.body if isinstance(row, ast.ImportFrom) for part in row.names}
+            self.assertEqual(imported - {node.id for node in ast.walk(tree) if isinstance(node, ast.Name)}, set(), name)
+
+    def test_comparisons_powers_and_sorting(self):
+        for name, node in nodes(ast.Compare):
+            for sign, other in zip(node.ops, node.comparators):
+                if isinstance(sign, (ast.Is, ast.IsNot)):
+                    self.assertIsInstance(other, ast.Constant, (name, node.lineno))
+        for name, node in nodes(ast.BinOp):
+            if isinstance(node.op, ast.Pow):
+                self.assertIsInstance(node.right, ast.Constant, (name, node.lineno))
+        for name, node in nodes(ast.Attribute):
+            self.assertNotEqual(node.attr, "sort", (name, node.lineno))
+        for name, node in nodes(ast.Name):
+            self.assertFalse(node.id == "_" and isinstance(node.ctx, ast.Load), (name, node.lineno))
+
     def test_names(self):
         for name, node in nodes(ast.Name):
             if hasattr(builtins, node.id):

@@ -3,11 +3,10 @@
 import random
 import unittest
 
-from tests.made import (
-    backward, exchanging, halving, late, plain, plainly_behind, plainly_told, some_program, sorting,
-)
+from tests.made import plainly_behind, plainly_told, some_program
 from textboxes.errors import BadGreat, BadPiece, BoxError
 from textboxes.great import great_length, great_letters, great_piece, great_place
+from textboxes.known import backward, exchanging, halving, late, plain, sorting
 from textboxes.makers import joined, led_by, told_by, turned
 from textboxes.programs import Program
 

@@ -4,11 +4,12 @@ import random
 import unittest
 
 from tests.made import (
-    backward, exchanging, halving, late, plain, plainly_enough, plainly_told, program_of, small_program, sorting,
-    texts_up_to, twin_of, with_a_place_twice, with_other_names,
+    plainly_enough, plainly_told, program_of, small_program, texts_up_to, twin_of, with_a_place_twice,
+    with_other_names,
 )
 from textboxes.errors import BoxError, OtherLetters
 from textboxes.fields import first_primes
+from textboxes.known import backward, exchanging, halving, late, plain, sorting
 from textboxes.likes import alike, enough, is_enough
 from textboxes.makers import either, joined, led_by, told_by, turned
 from textboxes.programs import Program

@@ -3,11 +3,9 @@
 import random
 import unittest
 
-from tests.made import (
-    backward, exchanging, halving, late, plain, plainly_told, put_together, small_program, some_program, sorting,
-    texts_up_to, twin_of,
-)
+from tests.made import plainly_told, put_together, small_program, some_program, texts_up_to, twin_of
 from textboxes.errors import BadLetters, BoxError, OtherLetters, TooMany
+from textboxes.known import backward, exchanging, halving, late, plain, sorting
 from textboxes.makers import either, joined, led_by, told_by, turned, within
 from textboxes.programs import Program
 from textboxes.runs import told

@@ -4,11 +4,12 @@ import random
 import unittest
 from fractions import Fraction
 
-from tests.made import plain, plain_marks, plain_number, small_program, some_program, texts_up_to
+from tests.made import plain_marks, plain_number, small_program, some_program, texts_up_to
 from textboxes.errors import BoxError, NotLetter
 from textboxes.fields import (
     FACTORS, combined, first_primes, fraction_of, inverse_of, number_modulo, primes_for, steps_of, width_modulo,
 )
+from textboxes.known import plain
 from textboxes.likes import marks
 from textboxes.makers import told_by
 from textboxes.marking import marks_of, terms_of

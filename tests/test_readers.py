@@ -3,8 +3,9 @@
 import random
 import unittest
 
-from tests.made import backward, halving, late, plain, plainly_behind, plainly_told, some_program
+from tests.made import plainly_behind, plainly_told, some_program
 from textboxes.errors import BoxError, NoDeed, NotLetter
+from textboxes.known import backward, halving, late, plain
 from textboxes.programs import Program
 from textboxes.readers import Reader
 

@@ -3,9 +3,10 @@
 import random
 import unittest
 
-from tests.made import backward, basis_of, plain, program_of, small_program, twin_of
+from tests.made import basis_of, program_of, small_program, twin_of
 from textboxes.bounds import Bound
 from textboxes.fields import first_primes
+from textboxes.known import backward, plain
 from textboxes.likes import enough, marks
 from textboxes.programs import Program
 from textboxes.relations import hold

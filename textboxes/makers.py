@@ -1,7 +1,7 @@
 """New programs made of programs (point 9 of the document)."""
 
 from textboxes.errors import BadLetters, TooMany
-from textboxes.programs import MOST_BOXES, MOST_LETTERS, MOST_PLACES, Program
+from textboxes.programs import MOST_BOXES, MOST_LETTERS, MOST_PLACES, Program, ends_of, moves_of
 from textboxes.ropes import written
 from textboxes.signs import BOXES, LETTERS, check_same_letters, has_only, in_order, is_letter, is_text, parts_of
 from textboxes.steps import Steps
@@ -29,7 +29,7 @@ def led_by(program, table):
             if found is not None:
                 target, fillings = found
                 moves[(place, letter)] = (target, {box: _filling_of(parts) for box, parts in fillings.items()})
-    return Program(in_order(table), program.boxes, program.places, moves, _ends_of(program))
+    return Program(in_order(table), program.boxes, program.places, moves, ends_of(program))
 
 
 def turned(program):
@@ -76,23 +76,13 @@ def _check_letter_table(table, letters):
             raise BadLetters(key)
 
 
-def _ends_of(program):
-    """Return the dict of the ends of a program."""
-    ends = {place: program.end(place) for place in program.places}
-    return {place: end for place, end in ends.items() if end is not None}
-
-
 def _refilled(program, boxes, change):
     """Return a program with other boxes, and with all its fillings changed by a function."""
     names = {box: boxes[at] for at, box in enumerate(program.boxes)}
     moves = {}
-    for place in program.places:
-        for letter in program.letters:
-            found = program.move(place, letter)
-            if found is not None:
-                target, fillings = found
-                moves[(place, letter)] = (target, {names[box]: change(fillings[box]) for box in fillings})
-    ends = {place: change(end) for place, end in _ends_of(program).items()}
+    for key, (target, fillings) in moves_of(program).items():
+        moves[key] = (target, {names[box]: change(fillings[box]) for box in fillings})
+    ends = {place: change(end) for place, end in ends_of(program).items()}
     return Program(program.letters, boxes, program.places, moves, ends)
 
 

@@ -96,6 +96,19 @@ class Program:
         return cls(letters, boxes, places, moves, ends)
 
 
+def moves_of(program):
+    """Return the dict of the moves of a program, in the order of the places, then of the letters."""
+    keys = [(place, letter) for place in program.places for letter in program.letters]
+    moves = {(place, letter): program.move(place, letter) for place, letter in keys}
+    return {key: found for key, found in moves.items() if found is not None}
+
+
+def ends_of(program):
+    """Return the dict of the ends of a program, in the order of the places."""
+    ends = {place: program.end(place) for place in program.places}
+    return {place: end for place, end in ends.items() if end is not None}
+
+
 def _are_boxes(thing):
     if not isinstance(thing, str) or len(thing) > MOST_BOXES:
         return False

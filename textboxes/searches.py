@@ -7,18 +7,21 @@ of such rows can be; or if relations hold behind all texts that leave room for n
 
 from textboxes.fields import FACTORS, first_primes, primes_for
 from textboxes.relations import hold
-from textboxes.runs import told
 from textboxes.twins import Twins
 
 MOST_EFFORT = 6000000
 FEW_PRIMES = (12, 48)
 
 
-def searched(one, two, until_parted):
-    """Return the twins, the texts and the parted text of a search with as many primes as it needs."""
+def searched(one, two, parts=None):
+    """Return the twins, the texts and the parted text of a search with as many primes as it needs.
+
+    The parted text is the first one for which the function `parts` tells that it parts the programs. Whether it does
+    must depend on whether a sum of the marks behind the text is 0.
+    """
     many = 1
     while True:
-        twins, texts, parted = _search(one, two, first_primes(many), until_parted)
+        twins, texts, parted = _search(one, two, first_primes(many), parts)
         more = _more_primes(twins, many, parted is None)
         if more is None or (parted is None and _is_certain(one, two, twins)):
             return twins, texts, parted
@@ -59,17 +62,17 @@ def _more_primes(twins, many, by_relations):
     return tried if many < tried <= most else None
 
 
-def _search(one, two, primes, until_parted):
+def _search(one, two, primes, parts):
     """Go through the texts by length, then by the alphabet, as far as they say more than those before.
 
     Returns the twins that kept them, the list of the texts that were kept, and the first one by which the programs are
-    parted, where the search ends then, or None.
+    parted, where the search ends then, or None. If there is no function `parts`, no text parts them.
     """
     twins = Twins(one, two, primes)
     texts = [""]
     kept = [twins.first()]
     twins.keep(kept[0])
-    if until_parted and told(one, "") != told(two, ""):
+    if parts is not None and parts(""):
         return twins, texts, ""
     at = 0
     while at < len(texts):
@@ -80,7 +83,7 @@ def _search(one, two, primes, until_parted):
                 continue
             texts.append(text)
             kept.append(states)
-            if until_parted and told(one, text) != told(two, text):
+            if parts is not None and parts(text):
                 return twins, texts, text
         at += 1
     return twins, texts, None

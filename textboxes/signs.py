@@ -49,6 +49,11 @@ def is_filling(thing, boxes):
     return is_text(rest)
 
 
+def is_number(thing):
+    """Tell whether an object is an integer; True and False are not."""
+    return isinstance(thing, int) and not isinstance(thing, bool)
+
+
 def is_pair(thing):
     """Tell whether an object is a pair."""
     return isinstance(thing, (list, tuple)) and len(thing) == 2

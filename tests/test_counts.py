@@ -132,7 +132,7 @@ class AllTold(Kit):
         for _ in range(300):
             program = small_program(chance, "ab"[:chance.randint(1, 2)], 3)
             found = all_told(program)
-            told = {plainly_told(program, text) for text in texts_up_to(program.letters, 7)} - {None}
+            told = {plainly_told(program, text) for text in texts_up_to(program.letters, 9)} - {None}
             answers[found is None] += 1
             if found is not None:
                 self.assertEqual(found, sorted(told, key=lambda text: (len(text), text)))

@@ -24,9 +24,7 @@ def lengths(program, many):
     steps = [_gathered(found) for found in ways.steps]
     # There are at most five letters, and so less than 2 to the power of 3 * many + 1 texts.
     bits = 3 * many + 1
-    tallies = {node: Tally(bits) for node in ways.firsts}
-    for tally in tallies.values():
-        tally.start(1)
+    tallies = {node: _one_text(bits) for node in ways.firsts}
     for _ in range(many):
         behind = {}
         for node, tally in tallies.items():
@@ -45,6 +43,13 @@ def lengths(program, many):
 def _silent(letters):
     """Return the program that tells the empty text of each text."""
     return Program(letters, "", ["a"], {("a", letter): ("a", {}) for letter in letters}, {"a": ""})
+
+
+def _one_text(bits):
+    """Return the tally of the empty text alone."""
+    tally = Tally(bits)
+    tally.start(1)
+    return tally
 
 
 def _gathered(steps):

@@ -57,7 +57,7 @@ def _alike(letters, moves, good):
     parts = Parts(len(moves))
     for state in good:
         parts.mark(state)
-    parts.split()
+    parts.divide()
     # Whatever leads to a part by a letter must be whole parts. Where a part is split behind that, it is enough to ask
     # this once more for the smaller half (Hopcroft's way); so no state is asked about very often.
     waiting = list(range(parts.many()))
@@ -67,7 +67,7 @@ def _alike(letters, moves, good):
             for target in members:
                 for state in sources[letter].get(target, []):
                     parts.mark(state)
-            waiting.extend(parts.split())
+            waiting.extend(parts.divide())
     return parts
 
 
@@ -119,7 +119,7 @@ class Parts:
         self._where[state], self._where[other] = to, at
         self._marked[part] += 1
 
-    def split(self):
+    def divide(self):
         """Split each part of which only some states are marked, unmark all, and return the list of the new parts.
 
         A new part is the smaller one of both halves.

@@ -17,7 +17,7 @@ def searched(one, two, parts=None):
     """Return the twins, the texts and the parted text of a search with as many primes as it needs.
 
     The parted text is the first one for which the function `parts` tells that it parts the programs. Whether it does
-    must depend on whether a sum of the marks behind the text is 0.
+    must depend on whether a sum of the marks behind the text is 0; or it is told so of all texts from some length on.
     """
     many = 1
     while True:

@@ -24,7 +24,7 @@ class Tally:
     def take(self, other, length, times):
         """Count what another tally has, with lengths that are so much greater, so many times."""
         skipped, digits = divmod(length, DIGITS)
-        for at, number in other._wholes.items():
+        for at, number in list(other._wholes.items()):
             moved = (number * times) << (digits * self._bits)
             self._add(at + skipped, moved & self._whole_most)
             self._add(at + skipped + 1, moved >> self._whole_bits)

@@ -21,7 +21,8 @@ def unlike_origins(one, two):
         return told(first, text) != told(second, text)
 
     # Where what is told is the same, origins are the same just if what each letter, or the end, puts stands at the same
-    # indices. So it does not matter which letters are told.
+    # indices. So it does not matter which letters are told; and it says no less if several letters are marked, and if
+    # the end is marked as well.
     found = searched(first, second, parts)[2]
     if found is None or (unlike is not None and len(found) >= len(unlike)):
         return unlike
@@ -29,16 +30,16 @@ def unlike_origins(one, two):
 
 
 class MarkedProgram:
-    """What a program tells of texts of which no letter, or one letter, is marked, as marked and other letters.
+    """What a program tells of texts of which some letters are marked, as marked and other letters.
 
-    Marked letters that are read are capital ones. A place tells as well whether a marked letter was read.
+    Letters that are read marked are capital ones. What is put for them, and by the end, is told as marked.
     """
 
     def __init__(self, program):
         self._program = program
         self._letters = program.letters + program.letters.upper()
         self._boxes = program.boxes
-        self._places = tuple([(place, is_behind) for is_behind in (False, True) for place in program.places])
+        self._places = program.places
 
     @property
     def letters(self):
@@ -52,25 +53,22 @@ class MarkedProgram:
 
     @property
     def places(self):
-        """The tuple of the places, the first of which is where it begins."""
+        """The tuple of the names of the places, in order."""
         return self._places
 
     def move(self, place, letter):
         """Return the pair of the next place and the dict of the fillings, or None."""
-        name, is_behind = place
-        is_marked = letter.isupper()
-        found = None if is_behind and is_marked else self._program.move(name, letter.lower())
+        found = self._program.move(place, letter.lower())
         if found is None:
             return None
         target, fillings = found
-        sign = MARKED if is_marked else USUAL
-        return (target, is_behind or is_marked), {box: self._told_by(fillings[box], sign) for box in fillings}
+        sign = MARKED if letter.isupper() else USUAL
+        return target, {box: self._told_by(fillings[box], sign) for box in fillings}
 
     def end(self, place):
         """Return the filling that is the end of a place, or None."""
-        name, is_behind = place
-        end = self._program.end(name)
-        return None if end is None else self._told_by(end, USUAL if is_behind else MARKED)
+        end = self._program.end(place)
+        return None if end is None else self._told_by(end, MARKED)
 
     def _told_by(self, filling, sign):
         """Return a filling with a sign in place of each letter."""

